@@ -1,0 +1,1 @@
+"""Trapsetter: pages set by request lines."""

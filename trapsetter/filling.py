@@ -12,6 +12,9 @@ WAITING = 5
 
 FIRST_STOPS = (8, 16, 24)
 
+MOST_WIDTH = 40
+MOST_INDENT = 20
+
 
 def fresh(width=20):
     """An environment as it is at first."""

@@ -171,7 +171,7 @@ class Environments(Case):
         self.assertEqual(setter.faults(), [(21, (), "deep"), (46, (), "first")])
 
     def test_names_of_one_to_six_letters(self):
-        self.assert_faults((".ev a", ".ev abcdef x", ".ev abcdefg", ".ev A", ".ev a1"),
+        self.assert_faults((".ev a", ".ev abcdef X", ".ev abcdefg", ".ev A", ".ev a1"),
                            (2, "parts"), (3, "parts"), (4, "parts"))
 
     def test_no_break_is_made(self):

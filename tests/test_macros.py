@@ -51,6 +51,13 @@ class Told(Case):
         # Those taken and the one that closes are not read.
         self.assertEqual(setter.lines_read(), 1 + 1 + 1 + 2 + 1 + 1 + 1)
 
+    def test_within_a_call_within_another(self):
+        source = (".de abc xx", ".bcd", "a", "..", "b", ".xx", ".de bcd xx", ".de cde", "c", "..", "d", ".xx",
+                  ".nf", ".abc", ".cde")
+        setter = told_by(9, *source)
+        self.assertEqual(setter.stands(), ("d", "a", "b", "c"))
+        self.assertEqual(setter.faults(), [(13, ("abc",), "unknown")])
+
     def test_within_a_macro_where_no_such_line_comes(self):
         source = (".de abc xx", "a", ".de bcd", "b", "c", ".xx", ".nf", ".abc", ".bcd")
         setter = told_by(9, *source)
@@ -91,6 +98,13 @@ class Calls(Case):
         self.assertEqual(setter.stands(), ("a", "a"))
         self.assertEqual(setter.faults(), [(6, ("abc",), "unknown"), (7, ("bcd",), "unknown"),
                                            (7, ("bcd",), "unknown")])
+
+    def test_what_is_being_done_goes_on_behind_a_call_amid_it(self):
+        # Within a call, amid the words of its line, a trap's macro calls another.
+        source = (*macro("abc", "a b c d e f", ".br", "-", ".br"), *macro("bcd", ".cde", "y"),
+                  *macro("cde", "x", ".wh 3 def"), *macro("def", "z"), ".wh 1 bcd", ".wd 3", ".abc", ".zz")
+        setter = told_by(9, *source)
+        self.assertEqual(setter.stands(), ("a b", "x y", "c d", "z e", "f", "-"))
 
     def test_faults_name_the_calls(self):
         source = (*macro("abc", ".bcd", ".zz"), *macro("bcd", ".zz"), "a", ".abc")

@@ -81,6 +81,7 @@ class Strings(unittest.TestCase):
     def test_a_name_of_one_or_two_letters_puts_in_nothing(self):
         self.assertEqual(text_of(r"a\S(ab)b"), "ab")
         self.assertEqual(text_of(r"a\S(x)b", strings={"xyz": "no"}), "ab")
+        self.assertEqual(text_of(r"a\S(ab)b", strings={"ab": "no"}), "ab")
 
     def test_what_is_put_in_is_not_looked_at_again(self):
         strings = {"abc": r"\R(x)\S(xyz)", "xyz": "no", "one": "\\", "two": "\\\\"}

@@ -33,6 +33,7 @@ class Widths(Case):
     def test_the_least_width_is_one(self):
         for number in ("0", "1", "-20", "-9999"):
             self.assert_set(2, (".wd " + number, "a bc"), ["a/bc"], [(1, (), "long")])
+            self.assertEqual(stood(9, ".wd " + number, ".wd +2", "a b c", ".br"), ["a b", "c"])
 
     def test_a_break_comes_first(self):
         self.assertEqual(stood(9, "a b c d e f", ".wd 3", "a b c", ".br"), ["a b c d e f", "a b", "c"])
@@ -54,6 +55,8 @@ class Indents(Case):
                                ("-3", 0), ("7 x", 7)):
             self.assertEqual(stood(9, ".in " + number, "a", ".br"), [" " * indent + "a"], number)
         self.assertEqual(stood(9, ".in 5", ".in +4", ".in -2", "a", ".br"), [" " * 7 + "a"])
+        self.assertEqual(stood(9, ".in -5", ".in +2", "a", ".br"), ["  a"])
+        self.assert_faults((".wd 3", ".ti -5", "abcd"), (2, "long"))
 
     def test_a_break_comes_first(self):
         self.assertEqual(stood(9, "a", ".in 2", "b", ".ti 4", "c", ".br", "d", ".br"),
@@ -239,6 +242,12 @@ class Own(Case):
     def test_its_form(self):
         source = (*macro("abc", ".lr x 5", ".af x i", r"\R(x)"), ".nf", ".nr x 4", ".abc", r"\R(x)")
         self.assertEqual(stood(9, *source), ["v", "4"])
+
+    def test_of_a_call_within_another(self):
+        source = (*macro("abc", ".lr x 2", ".bcd", r"\R(x)"),
+                  *macro("bcd", ".lr x 5", ".nr x +1", ".af x i", r"\R(x)"), ".nf", ".nr x 1", ".abc",
+                  r"\R(x)")
+        self.assertEqual(stood(9, *source), ["vi", "2", "1"])
 
     def test_as_seen_where_no_call_is(self):
         self.assertEqual(told_by(9, *macro("abc", ".lr x 5"), ".abc").value("x"), "0")

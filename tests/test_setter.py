@@ -224,7 +224,7 @@ class Widths(Case):
         self.assertEqual(told_by(9, "a b c", ".br").stands(), ("a b c",))
         self.assertEqual(told_by(9, "a b c", ".br", width=None).stands(), ("a b c",))
         self.assertEqual(told_by(9, ".ev e", "a b c", ".br", width=3).stands(), ("a b c",))
-        self.assertEqual(told_by(9, "a", ".br", width=1).stands(), ("a",))
+        self.assertEqual(told_by(9, "a b", ".br", width=1).stands(), ("a", "b"))
         self.assertEqual(told_by(9, "x" * 40, ".br", width=40).faults(), [])
 
     def test_wd_of_a_number_alone_does_nothing(self):

@@ -23,6 +23,15 @@ class Endless(Exception):
     pass
 
 
+class Line(str):
+    """A line of the source that knows its number."""
+
+    def __new__(cls, text, number):
+        line = super().__new__(cls, text)
+        line.number = number
+        return line
+
+
 def held(value, least=-9999, most=9999):
     return least if value < least else most if value > most else value
 
@@ -48,7 +57,8 @@ class Walker:
         self.puts = self.reads = self.line = 0
         self.ex = False
         self.macro = None
-        self.over = False
+        # Numbers of lines that were read, names called, places of traps sprung.
+        self.was_read, self.called, self.sprung = set(), set(), set()
 
     # What is seen and told
 
@@ -81,18 +91,13 @@ class Walker:
             return False
         self.page.append(line)
         if len(self.page) < self.length:
-            name = name_at(self.traps, len(self.page), self.length)
-            if name:
-                self.spring(name)
-            return bool(name)
+            return self.come_to(len(self.page))
         self.pages.append(tuple(self.page))
         self.page = []
         number, form = self.special["pn"]
         self.special["pn"] = (held(number + 1), form)
         mine = len(self.pages)
-        name = name_at(self.traps, 0, self.length)
-        if name:
-            self.spring(name)
+        self.come_to(0)
         first = True
         while self.waiting and len(self.pages) == mine and not self.aside:
             if not first and len(self.waiting[0]) > self.left():
@@ -105,6 +110,14 @@ class Walker:
     def left(self):
         return next_place(self.traps, len(self.page), self.length) - len(self.page)
 
+    def come_to(self, place):
+        """Whether a trap is there, which is sprung."""
+        name = name_at(self.traps, place, self.length)
+        if name:
+            self.sprung.add(place)
+            self.spring(name)
+        return bool(name)
+
     def spring(self, name):
         if not self.ex:
             self.call(name, ())
@@ -114,6 +127,7 @@ class Walker:
             return self.fault("unknown")
         if len(self.frames) >= 12:
             return self.fault("deep")
+        self.called.add(name)
         frame = Frame(name, self.kept[name][1], args)
         self.frames.append(frame)
         while frame.lines and not self.ex:
@@ -139,6 +153,7 @@ class Walker:
 
     def read(self, line):
         self.reads += 1
+        self.was_read.add(line.number)
         if self.reads > 500:
             self.fault("endless")
             raise Endless
@@ -324,6 +339,7 @@ class Walker:
             line = lines.pop(0)
             if line == closing:
                 is_closed = True
+                self.was_read.add(line.number)
             else:
                 taken.append(line)
         self.kept[parts[0]] = ("macro", tuple(taken))
@@ -421,6 +437,7 @@ class Walker:
         self.line = number
         if self.macro:
             if line == self.macro[1]:
+                self.was_read.add(number)
                 self.kept[self.macro[0]] = ("macro", tuple(self.macro[2]))
                 self.macro = None
             else:
@@ -442,7 +459,7 @@ class Walker:
     def walk(self, source):
         try:
             for number, line in enumerate(source):
-                self.hand(number, line)
+                self.hand(number, Line(line, number))
             self.finish(len(source))
         except Endless:
             self.frames = []

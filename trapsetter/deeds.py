@@ -44,13 +44,14 @@ def end_endless(state):
 
 def call_macro(state, name, arguments):
     """Has the lines of a macro read next."""
-    kind, lines = state.kept.get(name, ("", ()))
+    kind, numbers = state.kept.get(name, ("", ()))
     if kind != "macro":
         fault(state, "unknown")
     elif len(state.calls) == MOST_CALLS:
         fault(state, "deep")
     else:
-        state.calls.append(Call(name, lines, arguments, len(state.agenda)))
+        state.called_names[name] = True
+        state.calls.append(Call(name, numbers, arguments, len(state.agenda)))
 
 
 def put(state, line):
@@ -156,6 +157,7 @@ def _spring_at(state, place):
     name = name_at(state.laid, place, state.page_length)
     if name is None:
         return False
+    state.sprung_places[place] = True
     _spring(state, name)
     return True
 

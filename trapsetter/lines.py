@@ -9,9 +9,12 @@ MOST_LETTERS = 6
 
 def is_line(thing):
     """Whether the thing is a text of at most sixty signs."""
-    if not isinstance(thing, str) or len(thing) > MOST_SIGNS:
-        return False
-    return all([" " <= sign <= "~" for sign in thing])
+    return isinstance(thing, str) and len(thing) <= MOST_SIGNS and are_signs(thing)
+
+
+def are_signs(text):
+    """Whether the text is of signs alone, from the blank to the tilde."""
+    return all([" " <= sign <= "~" for sign in text])
 
 
 def is_source(thing):

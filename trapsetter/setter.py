@@ -2,11 +2,10 @@
 
 from trapsetter.errors import NoPage, NoSource, Over
 from trapsetter.figures import is_whole
-from trapsetter.filling import MOST_WIDTH, fresh
 from trapsetter.lines import is_line, is_name, need_source
-from trapsetter.registers import clamped, shown
-from trapsetter.state import State
+from trapsetter.registers import shown
 from trapsetter.walking import finish, hand
+from trapsetter.whole import begun, set_whole
 
 MOST_LENGTH = 40
 
@@ -15,12 +14,8 @@ class Setter:
     """Sets a source, line by line, on pages of so many lines."""
 
     def __init__(self, length, *, width=None):
-        if not is_whole(length, 1, MOST_LENGTH):
-            raise NoSource("a page has one to forty lines")
-        self._state = State(length)
-        if width is not None:
-            self._state.is_bound = True
-            self._state.turn(fresh(clamped(width, least=1, most=MOST_WIDTH)))
+        _need_length(length)
+        self._state = begun(length, width)
 
     def read(self, line):
         """Reads the next line of the source."""
@@ -91,12 +86,11 @@ class Setter:
 def set_source(source, length, *, width=None):
     """The pages of a source, and its faults."""
     need_source(source)
-    setter = Setter(length, width=width)
-    try:
-        for line in source:
-            setter.read(line)
-        setter.end()
-    except Over:
-        # It was endless, so what is left of it isn't read.
-        pass
-    return setter.pages(), setter.faults()
+    _need_length(length)
+    state = set_whole(source, length, width=width)
+    return state.ended, state.told_faults
+
+
+def _need_length(thing):
+    if not is_whole(thing, 1, MOST_LENGTH):
+        raise NoSource("a page has one to forty lines")

@@ -19,20 +19,30 @@ MOST_ARGUMENTS = 9
 STROKE_SIGN = "\\"
 
 
+def walk(state, source):
+    """Takes a whole source, up to its end or to where it is endless."""
+    for line in source:
+        if not state.is_over:
+            hand(state, line)
+    if not state.is_over:
+        finish(state)
+
+
 def hand(state, line):
     """Takes the next line of the source."""
-    state.line_number = state.handed
-    state.handed += 1
+    number = len(state.lines)
+    state.line_number = number
+    state.lines.append(line)
     if state.taking is not None:
-        _take(state, line)
+        _take(state, number)
     elif not state.is_quiet:
-        _read(state, line)
+        _read(state, number)
         _run(state)
 
 
 def finish(state):
     """Does all that is due at the source's end."""
-    state.line_number = state.handed
+    state.line_number = len(state.lines)
     if state.taking is not None:
         _keep_taken(state)
         fault(state, "open")
@@ -46,6 +56,64 @@ def finish(state):
         _run(state)
     if not state.is_over:
         close(state)
+
+
+def by_text(state, number):
+    """Does a line by its text, with all put in."""
+    do_line(state, with_put_in(state, state.lines[number]))
+
+
+def with_put_in(state, line):
+    """The line with what is told in it put in; registers are stepped."""
+    if STROKE_SIGN not in line:
+        return line
+    own = state.calls[-1].own if state.calls else {}
+    arguments = state.calls[-1].arguments if state.calls else ()
+    strings = {name: told for name, (kind, told) in state.kept.items() if kind == "string"}
+    # A register of the call's own is none of the four, whatever its name.
+    stepless = [name for name in STEPLESS if name not in own]
+    seen = {**state.seen_registers(), **own}
+    text, after = put_in_but(line, seen, strings, arguments, stepless)
+    for name, told in after.items():
+        if name in own:
+            own[name] = told
+        else:
+            state.registers[name] = told
+    return text
+
+
+def do_line(state, line):
+    """Does a line as it stands."""
+    if is_request(line):
+        do_request(state, word_of(line), rest_of(line))
+    else:
+        do_text(state, line, words_of(line))
+
+
+def do_text(state, line, words):
+    """Sets a line of text, by its words where they are filled."""
+    if not state.environment()[FILLING]:
+        _set_plain_line(state, line)
+    elif words:
+        put_words(state, words)
+    else:
+        behind_break(state, put_lines, ("",))
+
+
+def do_request(state, word, rest):
+    """Does what a request line asks for, or calls the macro of that name."""
+    if word in SETTING:
+        action = SETTING[word]
+    elif word in NAMING:
+        action = NAMING[word]
+    elif word in LEADING:
+        action = LEADING[word]
+    elif word in MACROS:
+        action = MACROS[word]
+    else:
+        call_macro(state, word, tuple(parts_of(rest)[:MOST_ARGUMENTS]))
+        return
+    action(state, rest)
 
 
 def ask_macro(state, rest):
@@ -79,7 +147,7 @@ def ask_if(state, rest):
     for _ in parts:
         behind = behind.partition(" ")[2].lstrip(" ")
     if behind and _holds(signed_of(parts[0]), parts[1], signed_of(parts[2])):
-        later(state, _do_line, behind)
+        later(state, do_line, behind)
 
 
 def ask_quiet(state, _):
@@ -102,62 +170,23 @@ def _run(state):
 
 def _read_on(state):
     call = state.calls[-1]
-    if state.is_quiet or call.reached == len(call.lines):
+    if state.is_quiet or call.reached == len(call.numbers):
         state.calls.pop()
     else:
-        line = call.lines[call.reached]
+        number = call.numbers[call.reached]
         call.reached += 1
-        _read(state, line)
+        _read(state, number)
 
 
-def _read(state, line):
+def _read(state, number):
     state.reads += 1
+    # The one that is too many is among those read, as lines_read counts them.
+    state.read_numbers[number] = True
     if state.reads > MOST_READS:
         end_endless(state)
     else:
-        _do_line(state, _with_put_in(state, line))
-
-
-def _with_put_in(state, line):
-    if STROKE_SIGN not in line:
-        return line
-    own = state.calls[-1].own if state.calls else {}
-    arguments = state.calls[-1].arguments if state.calls else ()
-    strings = {name: told for name, (kind, told) in state.kept.items() if kind == "string"}
-    # A register of the call's own is none of the four, whatever its name.
-    stepless = [name for name in STEPLESS if name not in own]
-    seen = {**state.seen_registers(), **own}
-    text, after = put_in_but(line, seen, strings, arguments, stepless)
-    for name, told in after.items():
-        if name in own:
-            own[name] = told
-        else:
-            state.registers[name] = told
-    return text
-
-
-def _do_line(state, line):
-    if is_request(line):
-        _do_request(state, word_of(line), rest_of(line))
-    elif not state.environment()[FILLING]:
-        _set_plain_line(state, line)
-    else:
-        _set_words(state, words_of(line))
-
-
-def _do_request(state, word, rest):
-    if word in SETTING:
-        action = SETTING[word]
-    elif word in NAMING:
-        action = NAMING[word]
-    elif word in LEADING:
-        action = LEADING[word]
-    elif word in MACROS:
-        action = MACROS[word]
-    else:
-        call_macro(state, word, tuple(parts_of(rest)[:MOST_ARGUMENTS]))
-        return
-    action(state, rest)
+        deed = state.reader
+        deed(state, number)
 
 
 def _set_plain_line(state, line):
@@ -168,41 +197,38 @@ def _set_plain_line(state, line):
     put(state, cells)
 
 
-def _set_words(state, words):
-    if words:
-        put_words(state, words)
-    else:
-        behind_break(state, put_lines, ("",))
-
-
-def _take(state, line):
-    name, closing, lines = state.taking
-    if line == closing:
+def _take(state, number):
+    name, closing, numbers = state.taking
+    if state.lines[number] == closing:
+        state.read_numbers[number] = True
         _keep_taken(state)
     else:
-        state.taking = (name, closing, (*lines, line))
+        state.taking = (name, closing, (*numbers, number))
 
 
 def _keep_taken(state):
-    name, _, lines = state.taking
-    state.kept[name] = ("macro", lines)
+    name, _, numbers = state.taking
+    state.kept[name] = ("macro", numbers)
     state.taking = None
 
 
 def _take_from_call(state, name, closing):
     call = state.calls[-1]
-    lines = call.lines[call.reached:]
+    numbers = call.numbers[call.reached:]
+    lines = [state.lines[number] for number in numbers]
     if closing in lines:
-        lines = lines[:lines.index(closing)]
-        call.reached += len(lines) + 1
+        at = lines.index(closing)
+        state.read_numbers[numbers[at]] = True
+        numbers = numbers[:at]
+        call.reached += at + 1
     else:
         fault(state, "open")
         _leave_call(call)
-    state.kept[name] = ("macro", lines)
+    state.kept[name] = ("macro", numbers)
 
 
 def _leave_call(call):
-    call.reached = len(call.lines)
+    call.reached = len(call.numbers)
 
 
 def _is_test(parts):

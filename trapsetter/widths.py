@@ -1,14 +1,14 @@
 """Whether two sources are set alike at all widths, and where they part."""
 
 from trapsetter.filling import MOST_WIDTH
-from trapsetter.setter import set_source
+from trapsetter.whole import pages_of
 
 
 def first_unlike(source, source2, length, *, least=1, most=40):
     """None, or (width, page, line, text or None, text or None)."""
     for width in range(max(1, least), min(most, MOST_WIDTH) + 1):
-        pages, _ = set_source(source, length, width=width)
-        pages2, _ = set_source(source2, length, width=width)
+        pages = pages_of(source, length, width=width)
+        pages2 = pages_of(source2, length, width=width)
         parting = _parting(_lines_of(pages), _lines_of(pages2))
         if parting is not None:
             number, line, line2 = parting

@@ -85,7 +85,8 @@ class Pages(Case):
         self.assert_talk(("page 0", "refused NoPage"), ("page 1", "refused NoPage"))
 
     def test_of_one_line(self):
-        self.assert_talk(("fresh 1", "ok"), ("line .sp", "1"), ("page 0", ""), ("line a", "1"), ("end", "2"), ("page 1", "a"))
+        self.assert_talk(("fresh 1", "ok"), ("line .sp", "1"), ("page 0", ""), ("line a", "1"), ("end", "2"),
+                         ("page 1", "a"))
 
     def test_of_two_figures(self):
         desk = told("fresh 1", *("line .sp",) * 10, "line a", "line .br")
@@ -101,11 +102,13 @@ class Pages(Case):
 
 class Faults(Case):
     def test_none_and_several(self):
-        self.assert_talk(("faults", "-"), ("line .zz", "0"), ("faults", "0 - unknown"), ("line .wd", "0"), ("line .ev", "0"),
+        self.assert_talk(("faults", "-"), ("line .zz", "0"), ("faults", "0 - unknown"), ("line .wd", "0"),
+                         ("line .ev", "0"),
                          ("faults", "0 - unknown / 1 - parts / 2 - first"))
 
     def test_with_calls(self):
-        desk = told("line .de abc", "line .bcd", "line .zz", "line ..", "line .de bcd", "line .rm x", "line ..", "line .abc")
+        desk = told("line .de abc", "line .bcd", "line .zz", "line ..", "line .de bcd", "line .rm x", "line ..",
+                    "line .abc")
         self.assertEqual(desk.say("faults"), "7 abc,bcd parts / 7 abc unknown")
 
     def test_behind_the_end(self):
@@ -115,9 +118,11 @@ class Faults(Case):
 
 class Values(Case):
     def test_of_a_register_that_is_there_and_is_not(self):
-        self.assert_talk(("value x", "0"), ("line .nr x 14", "0"), ("value x", "14"), ("line .af x i", "0"), ("value x", "xiv"),
+        self.assert_talk(("value x", "0"), ("line .nr x 14", "0"), ("value x", "14"), ("line .af x i", "0"),
+                         ("value x", "xiv"),
                          ("value y", "0"), ("line .nr y -3", "0"), ("line .af y 01", "0"), ("value y", "-03"),
-                         ("value pn", "1"), ("line .bp", "1"), ("value pn", "2"), ("value vp", "0"), ("line", "1"), ("value vp", "1"))
+                         ("value pn", "1"), ("line .bp", "1"), ("value pn", "2"), ("value vp", "0"), ("line", "1"),
+                         ("value vp", "1"))
 
     def test_of_what_is_no_name(self):
         desk = told("line .nr x 5", "line .nr abcdef 6")
@@ -133,18 +138,21 @@ class Values(Case):
 class Ends(Case):
     def test_once_and_twice(self):
         self.assert_talk(("end", "0"), ("end", "refused Over"))
-        self.assert_talk(("line a", "0"), ("end", "1"), ("end", "refused Over"), ("page 0", "a" + " / " * 9), ("faults", "-"))
+        self.assert_talk(("line a", "0"), ("end", "1"), ("end", "refused Over"), ("page 0", "a" + " / " * 9),
+                         ("faults", "-"))
         self.assert_talk(("line .bp", "1"), ("line a", "1"), ("end", "2"))
 
     def test_fresh(self):
         desk = told("line .zz", "line a", "line .nr x 4", "line .bp")
         self.assert_talk(("fresh 10", "ok"), desk=desk)
         self.assertEqual(seen(desk), seen(Desk()))
-        self.assert_talk(("end", "0"), ("fresh 2", "ok"), ("line .sp 2", "1"), ("page 0", " / "), ("end", "1"), desk=desk)
+        self.assert_talk(("end", "0"), ("fresh 2", "ok"), ("line .sp 2", "1"), ("page 0", " / "), ("end", "1"),
+                         desk=desk)
 
     def test_fresh_of_every_length(self):
         for length in range(1, 41):
-            self.assert_talk((f"fresh {length}", "ok"), ("line a", "0"), ("end", "1"), ("page 0", "a" + " / " * (length - 1)))
+            self.assert_talk((f"fresh {length}", "ok"), ("line a", "0"), ("end", "1"),
+                             ("page 0", "a" + " / " * (length - 1)))
 
     def test_fresh_of_no_length(self):
         desk = told("fresh 3", "line a", "line .sp", "line .zz")
@@ -171,7 +179,8 @@ class Refused(Case):
         before = seen(desk)
         self.assert_no_text(
             desk, "", " ", "-", "a", ".br", "lines", "line\t", "line\ta", "lin e", "linea", "fault", "faultss", "heres",
-            "ends", "fresh", "page", "value", "pages 0", "names", "traps", "twin", "ok", "refused NoText", "here,", "line.")
+            "ends", "fresh", "page", "value", "pages 0", "names", "traps", "twin", "ok", "refused NoText", "here,",
+            "line.")
         self.assertEqual(seen(desk), before)
 
     def test_numbers_that_are_none(self):
@@ -179,7 +188,8 @@ class Refused(Case):
         before = seen(desk)
         for word in ("page", "fresh"):
             self.assert_no_text(desk, *[f"{word} {rest}" for rest in (
-                "", " ", "00", "01", "007", "0000", "10000", "12345", "00001", "+1", "-1", "-0", "1.0", "x", "1x", "x1", "1 2",
+                "", " ", "00", "01", "007", "0000", "10000", "12345", "00001", "+1", "-1", "-0", "1.0", "x", "1x",
+                "x1", "1 2",
                 "1,", "i", "0x1", "1_0", "\u0661", "\u00b2", "1\t", "\t1", "1e1")])
         self.assertEqual(seen(desk), before)
 
@@ -189,7 +199,8 @@ class Refused(Case):
         for text in ("line a", "line", "page 0", "here", "faults", "value x", "end", "fresh 3"):
             self.assert_no_text(desk, " " + text)
             if not text.startswith("line"):
-                self.assert_no_text(desk, text + " ", text + "  ", text.replace(" ", "  ") + ("" if " " in text else " x"))
+                self.assert_no_text(desk, text + " ", text + "  ",
+                                    text.replace(" ", "  ") + ("" if " " in text else " x"))
         self.assertEqual(seen(desk), before)
 
     def test_great_letters(self):
@@ -224,7 +235,8 @@ class Refused(Case):
 class Side(Case):
     def test_two_desks_side_by_side(self):
         one, other = Desk(), Desk()
-        self.assertEqual([one.say("fresh 1"), one.say("line a"), other.say("line b"), one.say("line .br")], ["ok", "0", "0", "1"])
+        self.assertEqual([one.say("fresh 1"), one.say("line a"), other.say("line b"), one.say("line .br")],
+                         ["ok", "0", "0", "1"])
         self.assertEqual((one.say("page 0"), other.say("page 0"), other.say("here")), ("a", "refused NoPage", "-"))
         self.assertEqual((other.say("line .br"), other.say("here"), one.say("here")), ("0", "b", "-"))
         one.say("end")
@@ -240,7 +252,8 @@ class Side(Case):
 
     def test_it_answers_as_a_setter(self):
         desk, setter = Desk(), Setter(10)
-        for line in (".de abc", "x", "..", ".wh 2 abc", "a", ".br", "b", ".br", "c", ".nr x 3", ".sp 3", ".zz", ".bp", "d"):
+        for line in (".de abc", "x", "..", ".wh 2 abc", "a", ".br", "b", ".br", "c", ".nr x 3", ".sp 3", ".zz", ".bp",
+                     "d"):
             setter.read(line)
             self.assertEqual(desk.say("line " + line), str(len(setter.pages())))
             self.assertEqual(desk.say("here"), " / ".join(setter.stands()) if setter.stands() else "-")

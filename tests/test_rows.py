@@ -24,7 +24,8 @@ class Rows(unittest.TestCase):
 
     def test_text(self):
         self.assertEqual(row_of("a"), ("text", "a", ("a",)))
-        self.assertEqual(row_of("  some  words, here - "), ("text", "  some  words, here - ", ("some", "words,", "here", "-")))
+        self.assertEqual(row_of("  some  words, here - "),
+                         ("text", "  some  words, here - ", ("some", "words,", "here", "-")))
         self.assertEqual(row_of("x" * 60), ("text", "x" * 60, ("x" * 60,)))
         self.assertEqual(row_of("a.b .c ~"), ("text", "a.b .c ~", ("a.b", ".c", "~")))
 

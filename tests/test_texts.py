@@ -46,7 +46,8 @@ class Back(unittest.TestCase):
             self.assert_pages(pages)
 
     def test_sources(self):
-        for source in ((), ("",), ("", ""), ("a", ".br", "|", "="), ("x" * 60,) * 60, (EVERY_SIGN[:60], EVERY_SIGN[60:])):
+        for source in ((), ("",), ("", ""), ("a", ".br", "|", "="), ("x" * 60,) * 60,
+                       (EVERY_SIGN[:60], EVERY_SIGN[60:])):
             self.assert_source(source)
 
     def test_sources_made_by_a_seed_and_their_pages(self):

@@ -77,6 +77,13 @@ class First(Case):
         self.assertEqual(first_unlike(("a",), ("b",), 3, least=0), (1, 0, 0, "a", "b"))
         self.assertIsNone(first_unlike(("a",), ("a",), 3, least=-2, most=43))
 
+    def test_sources_and_lengths_somewhat_beyond(self):
+        source = (".nf",) + ("b",) * 69
+        self.assertIsNone(first_unlike(source, source + (".br",), 41))
+        self.assertEqual(first_unlike(source, source + ("c",), 41), (1, 1, 28, "", "c"))
+        self.assertEqual(first_unlike(("a",), ("b",), 0), (1, 0, 0, "a", "b"))
+        self.assertIs(lets_unlike(source, source + ("c",), 41, (1, 1, 28, "", "c")), True)
+
     def test_sources_made_by_a_seed(self):
         for seed in range(30):
             source, length = source_of(seed)

@@ -9,10 +9,9 @@ def first_unlike(source, source2, length, *, least=1, most=40):
     for width in range(max(1, least), min(most, MOST_WIDTH) + 1):
         pages = pages_of(source, length, width=width)
         pages2 = pages_of(source2, length, width=width)
-        parting = _parting(_lines_of(pages), _lines_of(pages2))
+        parting = _parting(pages, pages2)
         if parting is not None:
-            number, line, line2 = parting
-            return width, number // length, number % length, line, line2
+            return width, *parting
     return None
 
 
@@ -24,18 +23,16 @@ def lets_unlike(source, source2, length, thing, *, least=1, most=40):
     return all([_is_same(part, other) for part, other in zip(told, thing)])
 
 
-def _lines_of(pages):
-    # All pages are of one length, so a line's number tells its page.
-    return [line for page in pages for line in page]
-
-
-def _parting(lines, lines2):
-    """The first number where the lines are unlike, and both; None of none."""
-    for number in range(max(len(lines), len(lines2))):
-        line = lines[number] if number < len(lines) else None
-        line2 = lines2[number] if number < len(lines2) else None
-        if line != line2:
-            return number, line, line2
+def _parting(pages, pages2):
+    """The first (page, line, text, text) that are unlike, or None."""
+    for number in range(max(len(pages), len(pages2))):
+        page = pages[number] if number < len(pages) else ()
+        page2 = pages2[number] if number < len(pages2) else ()
+        for at in range(max(len(page), len(page2))):
+            line = page[at] if at < len(page) else None
+            line2 = page2[at] if at < len(page2) else None
+            if line != line2:
+                return number, at, line, line2
     return None
 
 
